@@ -1,0 +1,54 @@
+package trie
+
+import "byway/arena"
+
+// pack copies all that is in use into a new arena, in a row, so that the free words are in a row too.
+func (t *Tables) pack() {
+	old := t.arena.Reader()
+	t.arena = arena.New(t.arena.Size(), fixedWords)
+	for start := 0; start < fixedWords; start += familyWords {
+		t.packFirsts(&old, start)
+		t.packWords(&old, start+firsts, arena.Block{At: start + firsts, Size: firsts})
+	}
+}
+
+func (t *Tables) packFirsts(old *arena.Reader, start int) {
+	for at := start; at < start+firsts; at++ {
+		f := readFirst(old, at)
+		if f.node != 0 {
+			b := t.mustTake(nodeWords)
+			t.packNode(old, f.node, b.At)
+			f.node = b.At
+		}
+		writeFirst(t.arena, at, f)
+	}
+}
+
+func (t *Tables) packNode(old *arena.Reader, from, to int) {
+	n := readNode(old, from)
+	if b := n.hopBlock(); b.Size > 0 {
+		n.hops = t.mustTake(b.Size).At
+		t.packWords(old, b.At, n.hopBlock())
+	}
+	if b := n.childBlock(); b.Size > 0 {
+		n.children = t.mustTake(b.Size).At
+		for i := 0; i < b.Size; i += nodeWords {
+			t.packNode(old, b.At+i, n.children+i)
+		}
+	}
+	writeNode(t.arena, to, n)
+}
+
+func (t *Tables) packWords(old *arena.Reader, from int, to arena.Block) {
+	var w arena.Word
+	for i := range to.Size {
+		old.Read(from+i, &w)
+		t.arena.Write(to.At+i, w)
+	}
+}
+
+// mustTake takes a block that there is room for, as what is in use was in an arena of the same size before.
+func (t *Tables) mustTake(size int) arena.Block {
+	b, _ := t.arena.Take(size)
+	return b
+}
