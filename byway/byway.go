@@ -19,7 +19,7 @@ func New(words int) (*Fib, api.Errno) {
 	return &Fib{tables: trie.New(words)}, api.OK
 }
 
-// Run does some operations, one after the other (P4 to P8).
+// Run does some operations, one after the other (P4 to P8, P10).
 func (f *Fib) Run(ops ...api.Op) []api.Answer {
 	answers := make([]api.Answer, len(ops))
 	for i, op := range ops {
@@ -45,4 +45,4 @@ func (f *Fib) Dump(family int) []api.Route {
 }
 
 // Free tells how many words of the arena are not used (P10).
-func (f *Fib) Free() int { return 0 }
+func (f *Fib) Free() int { return f.tables.Free() }

@@ -51,7 +51,7 @@ func TestP1AnyInput(t *testing.T) {
 	done := 0
 	for range 20000 {
 		op := api.Op{Code: number(), Family: number(), Bits: texts[r.Intn(len(texts))], Len: number(), Hop: number()}
-		four, six := f.Dump(api.Four), f.Dump(api.Six)
+		four, six, free := f.Dump(api.Four), f.Dump(api.Six), f.Free()
 		a := f.Run(op)[0]
 		if a.Err == api.OK {
 			done++
@@ -59,6 +59,8 @@ func TestP1AnyInput(t *testing.T) {
 			t.Fatalf("Run(%#v) = %#v", op, a)
 		} else if !slices.Equal(f.Dump(api.Four), four) || !slices.Equal(f.Dump(api.Six), six) {
 			t.Fatalf("Run(%#v) = %#v, but the routes are others", op, a)
+		} else if f.Free() != free && a.Err != api.ErrFull {
+			t.Fatalf("Run(%#v) = %#v, but %d words are free, not %d", op, a, f.Free(), free)
 		}
 		f.Dump(number())
 		f.Free()
@@ -83,9 +85,11 @@ func drawOps(r *rand.Rand, count int) []api.Op {
 		switch k := r.Intn(20); {
 		case k == 0:
 			ops[i] = api.Op{Code: r.Intn(10) - 3, Family: r.Intn(8), Bits: address, Len: length, Hop: r.Intn(70000)}
-		case k < 8:
+		case k == 1:
+			ops[i] = api.Op{Code: api.Compact, Family: r.Intn(8), Bits: address, Len: length, Hop: r.Intn(70000)}
+		case k < 9:
 			ops[i] = insert(family, head(address, length), length, r.Intn(api.MaxHop+1))
-		case k < 12:
+		case k < 13:
 			ops[i] = remove(family, head(address, length), length)
 		default:
 			ops[i] = lookup(family, address)
@@ -105,7 +109,9 @@ func TestP2OthersDoNotMatter(t *testing.T) {
 		}
 		other.Run(drawOps(r, 1)...)
 		g.Dump(r.Intn(8))
-		g.Free()
+		if free := g.Free(); g.Free() != free || f.Free() != free {
+			t.Fatalf("behind %#v: %d and %d words are free", op, f.Free(), free)
+		}
 	}
 	if !slices.Equal(f.Dump(api.Four), g.Dump(api.Four)) || !slices.Equal(f.Dump(api.Six), g.Dump(api.Six)) {
 		t.Errorf("the tables are not the same")
@@ -202,6 +208,9 @@ func TestP4OneRunOrSeveral(t *testing.T) {
 	}
 	if !slices.Equal(f.Dump(api.Six), g.Dump(api.Six)) || !slices.Equal(f.Dump(api.Four), h.Dump(api.Four)) {
 		t.Errorf("one Run leaves other routes than several")
+	}
+	if f.Free() != g.Free() || f.Free() != h.Free() {
+		t.Errorf("one Run leaves other words free than several: %d, %d, %d", f.Free(), g.Free(), h.Free())
 	}
 }
 

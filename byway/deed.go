@@ -64,5 +64,7 @@ func (d lookup) do(t *trie.Tables) api.Answer {
 	return api.Answer{Hop: hop, Reads: reads}
 }
 
-// do does nothing as yet: compacting on demand (P10) is not built.
-func (compaction) do(*trie.Tables) api.Answer { return api.Answer{} }
+func (compaction) do(t *trie.Tables) api.Answer {
+	t.Compact()
+	return api.Answer{}
+}

@@ -31,6 +31,13 @@ func lookup(family int, bits string) api.Op {
 	return api.Op{Code: api.Lookup, Family: family, Bits: bits}
 }
 
+// compact compacts, and answers how many words are free then.
+func compact(t *testing.T, f *byway.Fib) int {
+	t.Helper()
+	check(t, f, api.Op{Code: api.Compact}, api.OK, 0)
+	return f.Free()
+}
+
 func route(bits string, length, hop int) api.Route {
 	return api.Route{Bits: bits, Len: length, Hop: hop}
 }

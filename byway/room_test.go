@@ -27,7 +27,7 @@ func together(i int) string {
 	return string(b)
 }
 
-func TestRoomForRoutes(t *testing.T) {
+func TestP8RoomForRoutes(t *testing.T) {
 	r := rand.New(rand.NewSource(21))
 	anywhere := map[int]string{}
 	for i := range roomFor(api.MaxWords) {
@@ -76,7 +76,7 @@ func churn(t *testing.T, r *rand.Rand, f *byway.Fib, m model, words, most, steps
 		} else {
 			hop := r.Intn(api.MaxHop + 1)
 			a := f.Run(insert(family, p.Bits, p.Len, hop))[0]
-			if a.Err == api.ErrFull && api.PerRoute*(m.count()+1)+api.Fixed > words {
+			if a == (api.Answer{Err: api.ErrFull}) && api.PerRoute*(m.count()+1)+api.Fixed > words {
 				refused++
 			} else if a != (api.Answer{}) {
 				t.Fatalf("Insert with %d routes in %d words: %#v", m.count(), words, a)
@@ -99,8 +99,8 @@ func anyOf(r *rand.Rand, routes map[api.Route]int) api.Route {
 	return route(x.Bits, x.Len, 0)
 }
 
-// TestRoomStays: as many routes as there must be room for, again and again others.
-func TestRoomStays(t *testing.T) {
+// TestP8RoomStays: as many routes as there must be room for, again and again others.
+func TestP8RoomStays(t *testing.T) {
 	r := rand.New(rand.NewSource(22))
 	for _, c := range []struct{ words, steps int }{{2048, 30000}, {3333, 20000}, {8192, 5000}, {65536, 5000}} {
 		f, m := newFib(t, c.words), newModel()
@@ -111,8 +111,8 @@ func TestRoomStays(t *testing.T) {
 	}
 }
 
-// TestFull: more routes than fit. What is refused changes nothing, and all else goes on.
-func TestFull(t *testing.T) {
+// TestP8Full: more routes than fit. What is refused changes nothing, and all else goes on.
+func TestP8Full(t *testing.T) {
 	r := rand.New(rand.NewSource(23))
 	for _, words := range []int{2048, 2500, 6000} {
 		f, m := newFib(t, words), newModel()
@@ -151,8 +151,8 @@ func fill(t *testing.T, f *byway.Fib, m model, step int) int {
 	}
 }
 
-// TestFullThenEmpty: what a full arena still takes is what needs no block: a short prefix, another hop.
-func TestFullThenEmpty(t *testing.T) {
+// TestP8FullThenEmpty: what a full arena still takes is what needs no block: a short prefix, another hop.
+func TestP8FullThenEmpty(t *testing.T) {
 	for _, words := range []int{2048, 65536} {
 		f := newFib(t, words)
 		for step := 1; step <= 5; step += 2 {

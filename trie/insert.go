@@ -19,7 +19,7 @@ func (t *Tables) Insert(family int, route api.Route) bool {
 		return true
 	}
 	// The free words are enough, only not in a row.
-	t.pack()
+	t.Compact()
 	return t.put(family, p, route.Hop)
 }
 
@@ -58,7 +58,7 @@ func (t *Tables) need(family int, p prefix) int {
 	return n.hopBlock().Size + 1
 }
 
-// put tries once. If it fails, no route has changed, but there may be blocks that nothing leads to: the caller must pack.
+// put tries once. If it fails, no route has changed, but there may be blocks that nothing leads to: the caller must compact.
 func (t *Tables) put(family int, p prefix, hop int) bool {
 	at, depth := t.deepest(family, p)
 	if depth == p.depth() {

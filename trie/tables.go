@@ -16,6 +16,9 @@ func New(words int) *Tables {
 	return &Tables{arena: arena.New(words, fixedWords)}
 }
 
+// Free tells how many words of the arena are not used.
+func (t *Tables) Free() int { return t.arena.Free() }
+
 // AddressBytes tells how many bytes the addresses of a family have: 0 if the family is none.
 func AddressBytes(family int) int {
 	switch family {

@@ -63,7 +63,7 @@ func drawn(r *rand.Rand) (int, api.Route) {
 	return family, api.Route{Bits: string(b), Len: length, Hop: r.Intn(api.MaxHop + 1)}
 }
 
-// TestNothingLeaks: each word is in use or free, and packing changes nothing but where the blocks lie.
+// TestNothingLeaks: each word is in use or free, and compacting changes nothing but where the blocks lie.
 func TestNothingLeaks(t *testing.T) {
 	r := rand.New(rand.NewSource(3))
 	tables := New(3000)
@@ -88,7 +88,7 @@ func TestNothingLeaks(t *testing.T) {
 			t.Fatalf("step %d: %d in use, %d free, of %d", i, n, tables.arena.Free(), tables.arena.Size())
 		}
 		if i%100 == 0 {
-			packing(t, tables)
+			compacting(t, tables)
 		}
 	}
 	if full == 0 {
@@ -106,19 +106,19 @@ func TestNothingLeaks(t *testing.T) {
 	}
 }
 
-func packing(t *testing.T, tables *Tables) {
+func compacting(t *testing.T, tables *Tables) {
 	t.Helper()
 	free, four, six := tables.arena.Free(), tables.Dump(api.Four), tables.Dump(api.Six)
-	tables.pack()
+	tables.Compact()
 	if tables.arena.Free() != free || !slices.Equal(tables.Dump(api.Four), four) || !slices.Equal(tables.Dump(api.Six), six) {
-		t.Fatalf("packing changed the routes, or %d free words to %d", free, tables.arena.Free())
+		t.Fatalf("compacting changed the routes, or %d free words to %d", free, tables.arena.Free())
 	}
 	for left := free; left > 0; left -= arena.MaxBlock {
 		if _, ok := tables.arena.Take(min(left, arena.MaxBlock)); !ok {
-			t.Fatalf("packed, but the last %d free words are not in a row", left)
+			t.Fatalf("compacted, but the last %d free words are not in a row", left)
 		}
 	}
-	tables.pack() // nothing leads to the blocks just taken
+	tables.Compact() // nothing leads to the blocks just taken
 }
 
 // TestRoomInPieces: when all that is free are single words, a chain of nodes still finds room.
